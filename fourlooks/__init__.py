@@ -1,0 +1,1 @@
+"""Fourlooks: closed cords of unit strokes, seen from four sides."""
