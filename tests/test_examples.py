@@ -1,5 +1,7 @@
-"""The examples of the document, word for word: sections 3, 8 and 9."""
+"""The examples of the document, word for word: sections 3, 8 and 9; and those of README.md."""
 
+import doctest
+import pathlib
 import unittest
 
 from fourlooks import cords, errors, pushes, quarters
@@ -111,6 +113,11 @@ class Examples(unittest.TestCase):
     def test_quarters(self):
         # The names that section 9 does not set are those of section 8.
         self.assertEqual(self.told(PUSHES + QUARTERS.lstrip()), 6 + 8)
+
+    def test_readme(self):
+        path = pathlib.Path(__file__).resolve().parent.parent / "README.md"
+        told = doctest.testfile(str(path), module_relative=False)
+        self.assertEqual((told.failed, told.attempted), (0, 7))
 
 
 if __name__ == "__main__":
