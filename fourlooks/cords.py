@@ -4,6 +4,8 @@ from fourlooks.errors import NoPlace, TooMany, Unfit
 from fourlooks.strokes import STROKES, bent_places, gone_back, is_number, is_point, is_stroke, walked
 
 ORIGIN = (0, 0, 0)
+# What a STROKE adds to a place that is told by one number: no row of 8 strokes comes 50 off its start.
+STEPS = {1: 1, 2: 100, 3: 10000, -1: -1, -2: -100, -3: -10000}
 
 
 def is_cord(thing):
@@ -106,23 +108,38 @@ def all_cords(many):
         raise TooMany()
     if many not in (4, 6, 8):
         raise Unfit()
-    return sorted([(ORIGIN, row) for row in _closed_rows(many) if row == _least_row(row)])
+    return [(ORIGIN, row) for row in _closed_rows(many) if row == _least_row(row)]
 
 
 def _closed_rows(many):
-    """The list of all rows of so many strokes that make a CORD, each begun with its least stroke."""
-    rows = [(stroke,) for stroke in STROKES]
+    """The list, ascending, of rows of so many strokes that make a CORD: each least row is among them."""
+    # A trail is a row, the places that it came to, and how many strokes of it stand ahead of its longest
+    # end that repeats its begin. A least row begins with a stroke below 0: each CORD has some.
+    trails = [((stroke,), (0, STEPS[stroke]), 1) for stroke in STROKES if stroke < 0]
     for left in range(many - 2, -1, -1):
-        rows = [row + (stroke,) for row in rows for stroke in STROKES if _goes_on(row, stroke, left)]
-    return rows
+        trails = [longer for trail in trails for longer in _gone_on(trail, left)]
+    return [trail[0] for trail in trails]
 
 
-def _goes_on(row, stroke, left):
-    """Whether stroke may follow the row, so many being left behind it to come back to its start."""
-    # A row with a stroke below its first one is no least form: begun with that stroke it is less.
-    if stroke < row[0]:
-        return False
-    spots = walked(ORIGIN, row + (stroke,))
-    if left == 0:
-        return spots[-1] == ORIGIN
-    return spots[-1] not in spots[:-1] and sum([abs(part) for part in spots[-1]]) <= left
+def _gone_on(trail, left):
+    """The list, ascending, of the trails one stroke longer, so many being left to come back to the start."""
+    row, spots, ahead = trail
+    # Whatever follows, the CORD gone the other way round has a lesser row.
+    if gone_back(row) < row:
+        return []
+    # With a lesser stroke the end that repeats the begin would go on below it: begun there the row is less.
+    least = row[-ahead]
+    found = []
+    for stroke in _ways_home(row, left):
+        spot = spots[-1] + STEPS[stroke]
+        if stroke >= least and (left == 0 or spot not in spots):
+            found.append((row + (stroke,), spots + (spot,), ahead if stroke == least else len(row) + 1))
+    return found
+
+
+def _ways_home(row, left):
+    """The STROKES, ascending, by which the row can go on to come back to its start with so many more."""
+    away = sum([abs(row.count(axis) - row.count(-axis)) for axis in (1, 2, 3)])
+    if away < left:
+        return STROKES
+    return [stroke for stroke in STROKES if row.count(stroke) < row.count(-stroke)]

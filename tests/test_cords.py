@@ -2,6 +2,7 @@
 
 import itertools
 import random
+import sys
 import unittest
 
 import lab
@@ -11,6 +12,23 @@ from fourlooks.errors import NoPlace, TooMany, Unfit
 
 FAR = 10 ** 6
 SHIFTS = ((0, 0, 0), (FAR, FAR, FAR), (-FAR, -FAR, -FAR), (-3, 7, 0), (10 ** 30, -10 ** 30, 5))
+
+
+def calls_of(work):
+    """How many calls are made while work runs: it tells the same on each machine, as time does not."""
+    many = 0
+
+    def seen(frame, event, told):
+        nonlocal many
+        many += event in ("call", "c_call")
+
+    before = sys.getprofile()
+    sys.setprofile(seen)
+    try:
+        work()
+    finally:
+        sys.setprofile(before)
+    return many
 
 
 class IsCord(unittest.TestCase):
@@ -239,6 +257,17 @@ class AllCords(unittest.TestCase):
             self.assertEqual({lab.shape(cord) for cord in told},
                              {lab.shape(((0, 0, 0), row)) for row in lab.closed_rows(many)})
         self.assertEqual([len(all_cords(many)) for many in (4, 6, 8)], [3, 22, 207])
+
+    def test_no_row_is_walked_anew_for_each_stroke(self):
+        # A third of the calls that it took when each row was walked anew for each stroke tried behind it.
+        for many, most in ((4, 889), (6, 9877), (8, 136243)):
+            self.assertLess(calls_of(lambda: all_cords(many)), most)
+
+    def test_asked_again_it_tells_the_same(self):
+        for many in (8, 4, 6, 8, 6, 4):
+            told = all_cords(many)
+            self.assertEqual(told, sorted({least_form(((0, 0, 0), row)) for row in lab.closed_rows(many)}))
+            del told[1:]
 
     def test_more_than_eight_are_too_many(self):
         for many in (9, 10, 11, 12, 40, 10 ** 6, 10 ** 30):
