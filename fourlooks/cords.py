@@ -5,7 +5,7 @@ from fourlooks.strokes import STROKES, bent_places, gone_back, is_number, is_poi
 
 ORIGIN = (0, 0, 0)
 # What a STROKE adds to a place that is told by one number: no row of 8 strokes comes 50 off its start.
-STEPS = {1: 1, 2: 100, 3: 10000, -1: -1, -2: -100, -3: -10000}
+PLACE_STEPS = {1: 1, 2: 100, 3: 10000, -1: -1, -2: -100, -3: -10000}
 
 
 def is_cord(thing):
@@ -31,7 +31,12 @@ def is_yard(thing):
     """Whether thing is a YARD."""
     if not (isinstance(thing, tuple) and len(thing) > 0 and all([is_cord(part) for part in thing])):
         return False
-    spots = [spot for start, strokes in thing for spot in walked(start, strokes)[1:]]
+    return are_apart(thing)
+
+
+def are_apart(cords):
+    """Whether no two of the CORDS have a common POINT."""
+    spots = [spot for start, strokes in cords for spot in walked(start, strokes)[1:]]
     return len(set(spots)) == len(spots)
 
 
@@ -44,6 +49,16 @@ def told_cord(cord):
         raise Unfit()
     told = (tuple(start), tuple(strokes))
     if not is_cord(told):
+        raise Unfit()
+    return told
+
+
+def told_yard(yard):
+    """The YARD in tuples, whether it was handed in by tuples or by lists; Unfit() if it is none."""
+    if not (isinstance(yard, (list, tuple)) and len(yard) > 0):
+        raise Unfit()
+    told = tuple([told_cord(cord) for cord in yard])
+    if not are_apart(told):
         raise Unfit()
     return told
 
@@ -71,9 +86,14 @@ def boxes(cord):
 def begun(cord, place):
     """The CORD told from POINT place on, round its end."""
     start, strokes = told_cord(cord)
+    check_place(place, strokes)
+    return (walked(start, strokes)[place], strokes[place:] + strokes[:place])
+
+
+def check_place(place, strokes):
+    """NoPlace(place) if place is the number of none of the strokes."""
     if not (is_number(place) and 0 <= place < len(strokes)):
         raise NoPlace(place)
-    return (walked(start, strokes)[place], strokes[place:] + strokes[:place])
 
 
 def turned_back(cord):
@@ -115,7 +135,7 @@ def _closed_rows(many):
     """The list, ascending, of rows of so many strokes that make a CORD: each least row is among them."""
     # A trail is a row, the places that it came to, and how many strokes of it stand ahead of its longest
     # end that repeats its begin. A least row begins with a stroke below 0: each CORD has some.
-    trails = [((stroke,), (0, STEPS[stroke]), 1) for stroke in STROKES if stroke < 0]
+    trails = [((stroke,), (0, PLACE_STEPS[stroke]), 1) for stroke in STROKES if stroke < 0]
     for left in range(many - 2, -1, -1):
         trails = [longer for trail in trails for longer in _gone_on(trail, left)]
     return [trail[0] for trail in trails]
@@ -131,7 +151,7 @@ def _gone_on(trail, left):
     least = row[-ahead]
     found = []
     for stroke in _ways_home(row, left):
-        spot = spots[-1] + STEPS[stroke]
+        spot = spots[-1] + PLACE_STEPS[stroke]
         if stroke >= least and (left == 0 or spot not in spots):
             found.append((row + (stroke,), spots + (spot,), ahead if stroke == least else len(row) + 1))
     return found

@@ -7,7 +7,7 @@ shadow of the PUSH, half a unit aside, crosses that of a CORD only where the
 middle of a stroke along axis 1 meets the middle of one along axis 2.
 """
 
-from fourlooks.strokes import determinant, walked
+from fourlooks.strokes import determinant, spans
 
 
 def pushed_link(cord, other, octant):
@@ -23,10 +23,7 @@ def pushed_link(cord, other, octant):
 
 def _flat_strokes(cord):
     """The list of the strokes along axes 1 and 2, each with its end that has the lesser numbers."""
-    start, strokes = cord
-    spots = walked(start, strokes)
-    rows = list(zip(strokes, spots, spots[1:]))
-    return [(stroke, min(begin, end)) for stroke, begin, end in rows if abs(stroke) != 3]
+    return [(stroke, low) for stroke, low in spans(cord) if abs(stroke) != 3]
 
 
 def _shadows(cord):

@@ -1,6 +1,7 @@
 """Numbers, POINTS and STROKES, one by one and in rows."""
 
 STROKES = (-3, -2, -1, 1, 2, 3)
+STEPS = {1: (1, 0, 0), 2: (0, 1, 0), 3: (0, 0, 1), -1: (-1, 0, 0), -2: (0, -1, 0), -3: (0, 0, -1)}
 
 
 def is_number(value):
@@ -44,8 +45,9 @@ def upright_to(stroke, other):
 
 def stepped(point, stroke):
     """The POINT one STROKE on from point."""
-    at = abs(stroke) - 1
-    return point[:at] + (point[at] + way(stroke),) + point[at + 1:]
+    x, y, z = point
+    along, across, up = STEPS[stroke]
+    return (x + along, y + across, z + up)
 
 
 def walked(start, strokes):
@@ -54,6 +56,13 @@ def walked(start, strokes):
     for stroke in strokes:
         spots.append(stepped(spots[-1], stroke))
     return spots
+
+
+def spans(cord):
+    """The list of the strokes of cord, each with that end of it that has the lesser numbers."""
+    start, strokes = cord
+    spots = walked(start, strokes)
+    return [(stroke, min(begin, end)) for stroke, begin, end in zip(strokes, spots, spots[1:])]
 
 
 def gone_back(strokes):

@@ -18,6 +18,20 @@ WIDE = ((0, 0, 0), (3,) * 10 + (2,) * 10 + (-3,) * 10 + (-2,) * 10)
 # Two stairs, one above the other: bent at each of their 40 POINTS.
 STAIRS = ((0, 0, 0), (1, 2) * 9 + (1, 3, -1) + (-2, -1) * 9 + (-3,))
 
+# LONG_RING goes up through HOOP and down through BEAD; THROUGH goes up through HOOP and comes back.
+LONG_RING = ((1, 1, 0), (3, 1, 1, 1, 1, -3, -3, -1, -1, -1, -1, 3))
+BEAD = ((4, 0, 0), (1, 1, 2, 2, -1, -1, -2, -2))
+THROUGH = ((1, -1, 0), (1, 3, 3, -1, -1, -3, -3, 1))
+LOW = ((0, 0, 0), (1, 1, -2, -1, -1, 2))
+
+# TWICE goes round the strand of WIDE along axis 3 two times.
+TWICE = ((-1, -1, 4), (1, 1, 2, 2, -1, -1, -2, 3, -2, 1, 1, 2, 2, -1, -1, -1, -3, -2, -2, 1))
+# Four CORDS, each linked with the next one alone.
+CHAIN = (((0, 0, 0), (1,) * 4 + (2,) * 4 + (-1,) * 4 + (-2,) * 4),
+         ((2, 2, -2), (1,) * 6 + (3,) * 4 + (-1,) * 6 + (-3,) * 4),
+         ((6, 0, 0), (1,) * 6 + (2,) * 4 + (-1,) * 6 + (-2,) * 4),
+         ((10, 2, -2), (1,) * 6 + (3,) * 4 + (-1,) * 6 + (-3,) * 4))
+
 STROKES = (-3, -2, -1, 1, 2, 3)
 OCTANTS = tuple((a, b, c) for a in (1, -1) for b in (1, -1) for c in (1, -1))
 FOUR_OCTANTS = ((1, 1, 1), (1, 1, -1), (1, -1, 1), (-1, 1, 1))
@@ -181,15 +195,44 @@ def pushed_link_seen(cord, octant, look):
     return signs // 2
 
 
-def clean_sight(rng, octant, told):
+def clean_sight(rng, octant, told, great=7):
     """What told(look) tells by a random clean look of the octant."""
-    great = 7
     while True:
         look = tuple(sign * rng.randint(1, great) for sign in octant)
         try:
             return told(look)
         except Unclean:
             great += 3
+
+
+def is_seen_clean(yard, look):
+    """Whether a look is clean for a YARD."""
+    rows = [edge for cord in yard for edge in edges(cord)]
+    try:
+        for j in range(len(rows)):
+            for i in range(j):
+                crossing(rows[i], rows[j], look)
+    except Unclean:
+        return False
+    return True
+
+
+def crossings_seen(one, two, look):
+    """The list, ascending, of (i, j, sign) of two lists of edges by a look; Unclean if an end is seen."""
+    found = []
+    for i, first in enumerate(one):
+        for j, second in enumerate(two):
+            sign = crossing(first, second, look)
+            found += [(i, j, sign)] if sign else []
+    return found
+
+
+def link_seen(rng, one, two, great=7):
+    """Half of the signs with which two closed rows of edges cross by some clean look."""
+    signs = clean_sight(rng, rng.choice(OCTANTS), lambda look: sum(row[2] for row in crossings_seen(one, two, look)),
+                        great)
+    assert signs % 2 == 0
+    return signs // 2
 
 
 def bent(cord, place):
@@ -336,4 +379,32 @@ NO_CORDS = (
     ((0, 0, 0), ((1,), 2, -1, -2)), ((0, 0, 0), (1.0, 2, -1, -2)), ((0, 0, 0), (10 ** 30, 2, -1, -2)),
     (SQUARE,), (SQUARE, SQUARE), ((((((((((((1,),),),),),),),),),),),), never_ending(),
     ((0, 0, 0), never_ending()),
+)
+
+NO_YARDS = (
+    tuple(bad for bad in NO_CORDS if bad != (SQUARE,)) + tuple((bad,) for bad in NO_CORDS)
+    + tuple((COIL, bad) for bad in NO_CORDS) + tuple((bad, COIL) for bad in NO_CORDS)
+    + ((COIL, COIL), (SQUARE, HOOP), (RING, HOOP, SQUARE), (LONG, STAIRS), SQUARE, COIL)
+)
+
+NO_TURNS = (
+    None, 0, "", "0000", {}, object(), (), (0,), (0, 0, 0), (0,) * 5, (0, 0, 0, True), (False, 0, 0, 0),
+    (0, 0, None, 0), (0, "0", 0, 0), (0, 0, 0, (0,)), (0.0, 0, 0, 0), never_ending(), ((0, 0, 0, 0),),
+)
+
+NO_BANDS = (
+    NO_CORDS + (SQUARE, COIL, (SQUARE,), (SQUARE, (0,) * 4, 0), ((0,) * 4, SQUARE), (SQUARE, SQUARE))
+    + tuple((bad, (0,) * 4) for bad in NO_CORDS) + tuple((SQUARE, turns) for turns in NO_TURNS)
+    + ((SQUARE, (0, 0, 0, 1)), (SQUARE, (1, 1, 0, 0)), (SQUARE, (-1, 0, 0, 0)), (COIL, (0,) * 8), (COIL, (0,) * 9),
+       (COIL, (0,) * 7 + (2,)), (COIL, (0,) * 7 + (-1,)), (COIL, (1,)), (SKEW, (0, 0, 0, 2, 0, 0)))
+)
+
+FLAT, WOUND = (SQUARE, (0, 0, 0, 0)), (COIL, (0, 0, 0, 0, 0, 0, 0, 1))
+# BAND_HIGH hops with its edge over the one of BAND_LOW, and goes through it then: BAND_HIGH_LED.
+BAND_LOW = (((0, -1, 0), (2, 2, -3, -3, -2, -2, 3, 3)), (0,) * 8)
+BAND_HIGH = (((-1, 0, 1), (1, 1, 3, -1, -1, -3)), (0,) * 6)
+BAND_HIGH_LED = (((-1, 0, 1), (-3, -3, 1, 1, 3, 3, 3, -1, -1, -3)), (0,) * 10)
+NO_STANDS = (
+    NO_BANDS + tuple((bad,) for bad in NO_BANDS) + tuple((WOUND, bad) for bad in NO_BANDS)
+    + tuple((bad, WOUND) for bad in NO_BANDS) + (FLAT, WOUND, (FLAT, FLAT), (WOUND, FLAT), (FLAT, (HOOP, (0,) * 8)))
 )

@@ -14,6 +14,24 @@ LISTED = {
         "begun": ["cord", "place"], "turned_back": ["cord"], "least_form": ["cord"], "alike": ["cord", "other"],
         "all_cords": ["many"],
     },
+    "spaces": {
+        "is_turn": ["thing"], "all_turns": [], "is_mirror": ["turn"], "turned": ["cord", "turn"],
+        "shifted": ["cord", "point"], "turned_band": ["band", "turn"], "put_together": ["turn", "other"],
+        "turn_back": ["turn"],
+    },
+    "looks": {
+        "is_look": ["thing"], "octant_of": ["look"], "is_clean": ["yard", "look"], "crossings": ["cord", "look"],
+        "crossings_between": ["cord", "other", "look"], "seen": ["cord", "look"],
+        "seen_between": ["cord", "other", "look"], "clean_look": ["yard", "octant"],
+    },
+    "links": {
+        "link": ["cord", "other"], "link_by": ["cord", "other", "look"], "link_table": ["yard"],
+        "linked_lots": ["yard"],
+    },
+    "skins": {
+        "is_square": ["thing"], "rim": ["skin"], "skin": ["cord"], "is_skin": ["cord", "thing"],
+        "met": ["skin", "cord", "octant"], "skins_added": ["skin", "other"],
+    },
     "pushes": {
         "self_link": ["cord", "octant"], "four": ["cord"], "corner_sum": ["cord", "octant"],
         "four_by": ["cord", "octant", "number"], "octant_change": ["cord", "octant", "axis"],
@@ -22,6 +40,22 @@ LISTED = {
         "quarters": ["cord"], "quarters_by": ["cord", "octant", "number"],
         "bend_change": ["ahead", "stroke", "other", "behind"], "out_change": ["ahead", "stroke", "side", "behind"],
         "changed_rows": ["number"],
+    },
+    "sides": {
+        "carried": ["side", "stroke", "other"], "side_turned": ["side", "stroke", "number"], "home": ["cord"],
+        "sides": ["band", "side"],
+    },
+    "bands": {
+        "is_band": ["thing"], "whole": ["band"], "plain_band": ["cord", "number"],
+        "slid": ["band", "place", "number"], "band_begun": ["band", "place"], "band_back": ["band"],
+        "same_band": ["band", "other"], "needed": ["cord", "turns"],
+    },
+    "deeds": {
+        "is_stand": ["thing"], "is_deed": ["thing"], "done": ["stand", "deed"], "can_do": ["stand", "deed"],
+        "bends": ["stand", "number"], "outs": ["stand", "number"], "ins": ["stand", "number"],
+    },
+    "hops": {
+        "hops": ["stand", "number"], "hop_sign": ["stand", "deed"], "hop_below": ["stand", "deed"],
     },
 }
 

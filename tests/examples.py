@@ -1,0 +1,218 @@
+"""The examples of the document, word for word, section by section."""
+
+CORDS = """
+>>> square, skew = ((0, 0, 0), (1, 2, -1, -2)), ((0, 0, 0), (1, 2, 3, -2, -1, -3))
+>>> coil, hoop = ((0, 0, 0), (1, 2, 1, 3, -1, -1, -2, -3)), ((0, 0, 0), (1, 1, 2, 2, -1, -1, -2, -2))
+>>> ring = ((1, 1, 0), (3, 1, 1, -3, -3, -1, -1, 3))
+>>> points(coil)
+((0, 0, 0), (1, 0, 0), (1, 1, 0), (2, 1, 0), (2, 1, 1), (1, 1, 1), (0, 1, 1), (0, 0, 1))
+>>> corners(coil), corners(hoop), boxes(coil), boxes(ring)
+((0, 1, 2, 3, 4, 6, 7), (0, 2, 4, 6), ((0, 0, 0), (2, 1, 1)), ((1, 1, -1), (3, 1, 1)))
+>>> begun(coil, 3), turned_back(square)
+(((2, 1, 0), (3, -1, -1, -2, -3, 1, 2, 1)), ((0, 0, 0), (2, 1, -2, -1)))
+>>> least_form(square), least_form(coil)[1], alike(square, ((5, 0, 2), (-1, 2, 1, -2))), alike(skew, turned_back(begun(skew, 4)))
+(((0, 0, 0), (-2, -1, 2, 1)), (-3, -1, -2, -1, 3, 2, 1, 1), True, True)
+>>> is_cord(ring), is_cord(((0, 0, 0), (1, -1))), is_cord(((0, 0, 0), (1, 2, -1, 2))), is_cord([(0, 0, 0), (1, 2, -1, -2)]), is_cord(((0, 0), (1, 2, -1, -2)))
+(True, False, False, False, False)
+>>> is_yard((hoop, ring)), is_yard((hoop, square)), is_yard(()), is_yard(hoop)
+(True, False, False, False)
+>>> all_cords(4), len(all_cords(6)), len(all_cords(8))
+([((0, 0, 0), (-3, -2, 3, 2)), ((0, 0, 0), (-3, -1, 3, 1)), ((0, 0, 0), (-2, -1, 2, 1))], 22, 207)
+>>> begun(square, 4)
+raises NoPlace(place=4)
+>>> all_cords(5)
+raises Unfit()
+>>> corners(((0, 0, 0), (1, 2, -1)))
+raises Unfit()
+"""
+
+SPACES = """
+>>> turned(coil, (2, 3, 1)), turned(((1, 0, 2), (1, 2, -1, -2)), (3, -2, 1))
+(((0, 0, 0), (2, 3, 2, 1, -2, -2, -3, -1)), ((2, 0, 1), (3, -2, -3, 2)))
+>>> [is_mirror(own) for own in ((1, 2, 3), (1, 2, -3), (2, 3, 1), (2, 1, 3), (-1, -2, -3))], len(all_turns()), all_turns()[0]
+([False, True, False, True, True], 48, (-3, -2, -1))
+>>> put_together((2, 3, 1), (1, 2, -3)), put_together((1, 2, -3), (2, 3, 1)), turn_back((2, 3, 1)), turn_back((-2, 1, 3))
+((2, -3, 1), (2, 3, -1), (3, 1, 2), (2, -1, 3))
+>>> shifted(square, (1, 0, -2)), is_turn((1, 2, -3)), is_turn((1, 2, 2)), is_turn([1, 2, 3])
+(((1, 0, -2), (1, 2, -1, -2)), True, False, False)
+>>> turned_band((coil, (0, 0, 0, 0, 0, 0, 0, 1)), (1, 2, -3))
+(((0, 0, 0), (1, 2, 1, -3, -1, -1, -2, 3)), (0, 0, 0, 0, 0, 0, 0, -1))
+>>> turned_band((coil, (0, 0, 0, 0, 0, 0, 0, 0)), (1, 2, 3))
+raises Unfit()
+"""
+
+LOOKS = """
+>>> square, skew = ((0, 0, 0), (1, 2, -1, -2)), ((0, 0, 0), (1, 2, 3, -2, -1, -3))
+>>> coil = ((0, 0, 0), (1, 2, 1, 3, -1, -1, -2, -3))
+>>> hoop, ring = ((0, 0, 0), (1, 1, 2, 2, -1, -1, -2, -2)), ((1, 1, 0), (3, 1, 1, -3, -3, -1, -1, 3))
+>>> crossings(skew, (3, 4, 5)), crossings(skew, (5, 4, 3)), crossings(skew, (3, 4, -5)), crossings(square, (1, 1, 1))
+([(0, 3, 1)], [(3, 5, 1)], [(1, 4, -1)], [])
+>>> crossings_between(hoop, ring, (5, 6, 7)), seen_between(ring, hoop, (5, 6, 7)), seen(skew, (-3, -4, -5)), seen(skew, (-3, 4, -5))
+([(2, 2, 1), (3, 6, 1)], 2, 1, 0)
+>>> is_clean((skew,), (1, 1, 1)), is_clean((skew,), (3, 4, 5)), is_clean((hoop, ring), (1, 1, 1)), octant_of((3, -4, 5)), is_look((1, 0, 2))
+(False, True, False, (1, -1, 1), False)
+>>> [seen(coil, clean_look((coil,), octant)) for octant in ((1, 1, 1), (1, 1, -1), (1, -1, 1), (-1, 1, 1))]
+[-1, 0, 0, 0]
+>>> is_clean((hoop, ring), clean_look((hoop, ring), (1, -1, 1))), octant_of(clean_look((skew,), (-1, 1, 1)))
+(True, (-1, 1, 1))
+>>> seen(skew, (1, 1, 1))
+raises NotClean()
+>>> seen_between(hoop, square, (5, 6, 7))
+raises Unfit()
+"""
+
+LINKS = """
+>>> hoop, ring = ((0, 0, 0), (1, 1, 2, 2, -1, -1, -2, -2)), ((1, 1, 0), (3, 1, 1, -3, -3, -1, -1, 3))
+>>> link(hoop, ring), link(ring, hoop), link(hoop, turned_back(ring)), link_by(hoop, ring, (1, 9, 81)), link_by(hoop, ring, (81, -9, 1))
+(1, 1, -1, 1, 1)
+>>> aside, through = ((9, 0, 0), (1, 2, -1, -2)), ((1, -1, 0), (1, 3, 3, -1, -1, -3, -3, 1))
+>>> link(hoop, aside), link(hoop, through), link(ring, through)
+(0, 0, 0)
+>>> long, bead = ((1, 1, 0), (3, 1, 1, 1, 1, -3, -3, -1, -1, -1, -1, 3)), ((4, 0, 0), (1, 1, 2, 2, -1, -1, -2, -2))
+>>> link(bead, long), link(hoop, bead)
+(-1, 0)
+>>> link_table((hoop, aside, long, bead)), linked_lots((hoop, aside, long, bead))
+(((0, 0, 1, 0), (0, 0, 0, 0), (1, 0, 0, -1), (0, 0, -1, 0)), [(0, 2, 3), (1,)])
+>>> link_by(hoop, ring, (1, 1, 1))
+raises NotClean()
+>>> link(hoop, hoop)
+raises Unfit()
+"""
+
+SKINS = """
+>>> rim(((((0, 0, 0), 3), 1),))
+(((0, 0, 0), 1, 1), ((0, 0, 0), 2, -1), ((0, 1, 0), 1, -1), ((1, 0, 0), 2, 1))
+>>> thin = ((((0, 0, 0), 2), -1), (((1, 0, 0), 1), 1))
+>>> is_skin(skew, thin), is_skin(skew, thin[:1]), is_skin(skew, list(thin)), [met(thin, skew, own) for own in ((1, 1, 1), (1, 1, -1), (1, -1, 1), (-1, 1, 1))]
+(True, False, False, [1, -1, 0, 0])
+>>> flat = tuple([(((x, y, 0), 3), 1) for x in (0, 1) for y in (0, 1)])
+>>> is_skin(hoop, flat), met(flat, ring, (1, 1, 1)), met(flat, ring, (-1, 1, -1)), met(flat, hoop, (1, 1, 1))
+(True, 1, 1, 0)
+>>> box = ((((0, 0, 0), 1), -1), (((0, 0, 0), 2), -1), (((0, 0, 0), 3), -1), (((0, 0, 1), 3), 1), (((0, 1, 0), 2), 1), (((1, 0, 0), 1), 1))
+>>> rim(box), len(skins_added(thin, box)), is_skin(skew, skins_added(thin, box)), met(box, skew, (1, 1, 1)), is_skin(coil, skin(coil))
+((), 6, True, 0, True)
+>>> skins_added(flat, flat[:1] + ((((1, 1, 0), 3), -1),))
+((((0, 0, 0), 3), 2), (((0, 1, 0), 3), 1), (((1, 0, 0), 3), 1))
+>>> is_square(((0, 0, 0), 3)), is_square(((0, 0, 0), -3)), is_square(((0, 0), 1))
+(True, False, False)
+>>> met(flat, ((0, 0, 0), (1, 2)), (1, 1, 1))
+raises Unfit()
+"""
+
+PUSHES = """
+>>> square, skew = ((0, 0, 0), (1, 2, -1, -2)), ((0, 0, 0), (1, 2, 3, -2, -1, -3))
+>>> coil = ((0, 0, 0), (1, 2, 1, 3, -1, -1, -2, -3))
+>>> four(square), four(skew), four(coil)
+((0, 0, 0, 0), (1, -1, 0, 0), (-1, 0, 0, 0))
+>>> [corner_sum(own, (1, 1, 1)) for own in (square, skew, coil)], corner_sum(skew, (1, 1, -1)), corner_sum(coil, (-1, 1, 1))
+([0, 4, -3], -4, 1)
+>>> self_link(coil, (1, 1, 1)), self_link(coil, (-1, -1, -1)), self_link(skew, (1, 1, -1)), self_link(skew, (1, -1, -1))
+(-1, -1, -1, 0)
+>>> four_by(coil, (1, 1, -1), 0), four_by(coil, (1, 1, -1), 5), four_by(skew, (-1, -1, 1), -1)
+((-1, 0, 0, 0), (4, 5, 5, 5), (1, -1, 0, 0))
+>>> octant_change(coil, (1, 1, 1), 3), octant_change(coil, (1, 1, -1), 3), octant_change(skew, (1, 1, 1), 3)
+(-1, 1, 2)
+>>> self_link(((0, 0, 0), (1, 2, -1)), (1, 1, 1))
+raises Unfit()
+"""
+
+QUARTERS = """
+>>> quarters(square), quarters(skew), quarters(coil), quarters(((5, 5, 5), (1, 2, 1, -2, -3, -1, -1, 3)))
+(0, 0, -1, 1)
+>>> quarters_by(coil, (1, -1, 1), 0), quarters_by(coil, (1, 1, 1), 0), quarters_by(skew, (1, 1, 1), 1)
+(-1, 3, 0)
+>>> bend_change(1, 2, 1, 3), quarters(((0, 0, 0), (1, 1, 2, 3, -1, -1, -2, -3))), bend_change(3, 1, 2, 3), bend_change(1, 2, 1, 2)
+(1, 0, -2, 0)
+>>> out_change(1, 1, 3, 2), out_change(2, 1, 3, 2), out_change(-2, 1, 3, 2), out_change(1, 1, 3, 1)
+(1, 2, 0, 0)
+>>> [len(changed_rows(number)) for number in (-3, -2, -1, 0, 1, 2)], changed_rows(2)[:2]
+([0, 24, 96, 144, 96, 24], [(-3, -2, 1, -3), (-3, -1, -2, -3)])
+>>> bend_change(-1, 1, 2, 1)
+raises Unfit()
+>>> bend_change(1, 2, 1, -2)
+raises Unfit()
+>>> out_change(-3, 1, 3, 1)
+raises Unfit()
+"""
+
+SIDES = """
+>>> carried(2, 1, 2), carried(-2, 1, 2), carried(3, 1, 2), carried(3, 1, 1), carried(1, -3, -1)
+(-1, 1, 3, 3, -3)
+>>> side_turned(2, 1, 1), side_turned(2, 1, 2), side_turned(2, 1, -1), side_turned(2, -1, 1), side_turned(3, 1, 6)
+(3, -2, -3, -3, -3)
+>>> square, skew = ((0, 0, 0), (1, 2, -1, -2)), ((0, 0, 0), (1, 2, 3, -2, -1, -3))
+>>> coil = ((0, 0, 0), (1, 2, 1, 3, -1, -1, -2, -3))
+>>> home(square), home(skew), home(coil), home(((0, 0, 0), (1, 2, 1, -3, -1, -1, -2, 3)))
+(0, 0, 3, 1)
+>>> sides((square, (0, 0, 0, 0)), 2), sides((square, (1, 0, -1, 0)), 3)
+(((2, 2), (-1, -1), (-2, -2), (1, 1)), ((3, -2), (1, 1), (2, 3), (3, 3)))
+>>> sides((coil, (0, 0, 0, 0, 0, 0, 0, 1)), 2)[5:]
+((2, 2), (-1, -1), (-1, 2))
+>>> carried(1, 1, 2)
+raises Unfit()
+>>> sides((square, (0, 0, 0, 0)), -1)
+raises Unfit()
+"""
+
+BANDS = """
+>>> is_band((square, (0, 0, 0, 4))), is_band((square, (0, 0, 0, 1))), is_band((coil, (0,) * 8)), is_band((coil, (0, 0, 1, 0, 0, 0, 0, 0)))
+(True, False, False, True)
+>>> is_band((square, [0, 0, 0, 0])), is_band((square, (0, 0, 0))), is_band((square, (0, 0, 0, False)))
+(False, False, False)
+>>> whole((square, (0, 0, 0, 4))), whole((coil, (0, 0, 1, 0, 0, 0, 0, 0))), whole((coil, (3, 0, 0, 0, 2, 0, 0, -8)))
+(1, 0, -1)
+>>> plain_band(coil, 2)[1], plain_band(square, -1)
+((0, 0, 0, 0, 0, 0, 0, 9), (((0, 0, 0), (1, 2, -1, -2)), (0, 0, 0, -4)))
+>>> strip = (square, (1, 2, 3, -2))
+>>> slid(strip, 1, 5)[1], band_begun(strip, 1), band_back(strip)
+((1, 7, -2, -2), (((1, 0, 0), (2, -1, -2, 1)), (2, 3, -2, 1)), (((0, 0, 0), (2, 1, -2, -1)), (-2, 3, 2, 1)))
+>>> whole(strip), whole(band_back(strip)), same_band(strip, (square, (0, 4, 0, 0))), same_band(strip, band_begun(strip, 1))
+(1, 1, True, False)
+>>> needed(coil, (0,) * 8), needed(square, (1, 0, 0, 0)), needed(square, (0, 0, 0, 8))
+(1, 3, 0)
+>>> slid(strip, 3, 1)
+raises NoPlace(place=4)
+>>> whole((square, (1, 0, 0, 0)))
+raises Unfit()
+"""
+
+DEEDS = """
+>>> flat, wound = (square, (0, 0, 0, 0)), (coil, (0, 0, 0, 0, 0, 0, 0, 1))
+>>> outs((flat,), 0)[:4], len(outs((flat,), 0)), bends((flat,), 0), ins((flat,), 0)
+([('out', 0, 0, -3), ('out', 0, 0, -2), ('out', 0, 0, 3), ('out', 0, 1, -3)], 12, [], [])
+>>> done((flat,), ("out", 0, 0, 3))
+((((0, 0, 0), (3, 1, -3, 2, -1, -2)), (0, 0, 0, 0, 0, 0)),)
+>>> ins((wound,), 0), done((wound,), ("in", 0, 2))
+([('in', 0, 2)], ((((0, 0, 0), (1, 2, 3, -1, -2, -3)), (0, 0, -1, 0, 0, 1)),))
+>>> done((wound,), ("begin", 0, 6))[0]
+(((0, 1, 1), (-2, -3, 1, 2, 1, 3, -1, -1)), (0, 1, 0, 0, 0, 0, 0, 0))
+>>> over = ((1, -1, 1), (2, 2, 2, 3, 3, -2, -2, -2, -3, -3))
+>>> two = ((hoop, (0,) * 8), (over, (0,) * 10))
+>>> led = done(two, ("hop", 0, 0, 3))
+>>> led[0][0][1], can_do(two, ("hop", 0, 0, -3)), done(led, ("back", 0, 0)) == two
+((3, 3, 1, 1, -3, -3, 2, 2, -1, -1, -2, -2), False, True)
+>>> is_deed(("out", 0, 0, 4)), is_deed(("cut", -1, 0)), is_deed(["begin", 0, 0]), can_do((flat,), ("cut", -1, 0))
+(False, True, False, False)
+>>> done((flat,), ("bend", 0, 3))
+raises NoPlace(place=4)
+>>> done((flat,), ("out", 0, 0, 2))
+raises Taken(point=(0, 1, 0))
+>>> done((flat,), ("in", 0, 0))
+raises CanNot()
+"""
+
+HOPS = """
+>>> low, high = ((0, -1, 0), (2, 2, -3, -3, -2, -2, 3, 3)), ((-1, 0, 1), (1, 1, 3, -1, -1, -3))
+>>> two = (plain_band(low, 0), plain_band(high, 0))
+>>> hops(two, 1), hop_sign(two, ("hop", 1, 0, -3)), hop_below(two, ("hop", 1, 0, -3))
+([('hop', 1, 0, -3)], -1, (0, 0))
+>>> led = done(two, ("hop", 1, 0, -3))
+>>> led[1][0], link(two[0][0], two[1][0]), link(led[0][0], led[1][0]), [whole(own) for own in led]
+(((-1, 0, 1), (-3, -3, 1, 1, 3, 3, 3, -1, -1, -3)), 0, -1, [0, 0])
+>>> hop_sign(led, ("back", 1, 0)), hop_below(led, ("back", 1, 0)), done(led, ("back", 1, 0)) == two
+(1, (0, 0), True)
+>>> hop_sign(two, ("slide", 1, 0, 5))
+raises Unfit()
+>>> hop_sign(two, ("hop", 1, 0, 3))
+raises Taken(point=(-1, 0, 2))
+"""
