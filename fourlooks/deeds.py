@@ -4,7 +4,7 @@ from fourlooks.bands import band_begun, is_band, slid, told_band
 from fourlooks.cords import are_apart, check_place
 from fourlooks.errors import CanNot, NoBand, NoPlace, Taken, Unfit
 from fourlooks.rows import WANTED, lifted, new_strokes, new_turns, row_change
-from fourlooks.strokes import STROKES, determinant, is_number, is_stroke, stepped, walked
+from fourlooks.strokes import STROKES, is_number, is_stroke, stepped, walked
 
 # The words of the DEEDS with four parts, and those of them whose last one is a side.
 LONG_WORDS = ("out", "hop", "slide")
@@ -164,16 +164,13 @@ def named(ground, deed):
 
 
 def strand_below(ground, deed):
-    """The numbers of a BAND and of its stroke t, for the strand over which a hop or back goes: it comes to m by t
-    and goes straight on, square to what is lifted and to its side; None if there is none."""
+    """The numbers of the BAND and of its stroke by which a strand comes to the POINT m over which a hop or back
+    goes whose new POINTS are free; None if m is free."""
     stroke, side = lifted(deed, named(ground, deed))
     middle = stepped(stepped(ground.points[deed[1]][deed[2]], stroke), side)
     if middle not in ground.spots:
         return None
+    # Of the six POINTS beside m four are those of the hop's own or free ones: a strand that comes to m by one
+    # of the other two goes straight on to the other, square to what is lifted and to its side.
     number, at = ground.spots[middle]
-    strokes = ground.bands[number][0][1]
-    # Stroke -1 is the last one: it comes to POINT 0.
-    comes = strokes[at - 1]
-    if comes != strokes[at] or determinant(stroke, side, comes) == 0:
-        return None
-    return (number, (at - 1) % len(strokes))
+    return (number, (at - 1) % len(ground.points[number]))

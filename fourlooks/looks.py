@@ -76,11 +76,13 @@ def _all_crossings(yard, look):
 
 
 def _sign_seen(stroke, low, partner, height, look):
-    """The sign with which look sees two strokes cross, each told with its end of the lesser numbers; 0 if
-    it does not; NotClean() if it sees an end of one of them on the other, or two of one axis meet."""
+    """The sign with which look sees two strokes cross, each told with its end of the lesser numbers; 0 if it
+    does not see them cross; NotClean() if it sees an end of one of them on the other one."""
     one, two = abs(stroke) - 1, abs(partner) - 1
+    # Where strokes of one axis are seen along one another, a CORNER of the one strand or of the other is, too:
+    # its other stroke, with an end there, tells that look is not clean.
     if one == two:
-        return _sign_along(one, low, height, look)
+        return 0
     third = 3 - one - two
     apart, wide = low[third] - height[third], look[third]
     # Alike there, they are seen to meet only where they do: in one place, not in two.
@@ -96,16 +98,3 @@ def _sign_seen(stroke, low, partner, height, look):
     if on_one in (0, wide) or on_two in (0, wide):
         raise NotClean()
     return determinant(stroke, partner, third + 1 if apart > 0 else -third - 1)
-
-
-def _sign_along(axis, low, height, look):
-    """0, as two strokes along one axis do not cross; NotClean() if look sees them meet."""
-    one, two = (axis + 1) % 3, (axis + 2) % 3
-    apart = low[one] - height[one]
-    if apart == 0 or apart * look[two] != (low[two] - height[two]) * look[one]:
-        return 0
-    # look leads from the one line to the other: by this many parts of look[one] along the axis.
-    along = apart * look[axis] - (low[axis] - height[axis]) * look[one]
-    if abs(along) <= abs(look[one]):
-        raise NotClean()
-    return 0

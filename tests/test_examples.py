@@ -61,7 +61,7 @@ class Examples(unittest.TestCase):
     def test_readme(self):
         path = pathlib.Path(__file__).resolve().parent.parent / "README.md"
         told = doctest.testfile(str(path), module_relative=False)
-        self.assertEqual((told.failed, told.attempted), (0, 7))
+        self.assertEqual((told.failed, told.attempted), (0, 23))
 
 
 if __name__ == "__main__":
