@@ -57,14 +57,14 @@ def told_deed(deed):
 
 def done(stand, deed):
     """The STAND behind deed."""
-    return _done(told_stand(stand), told_deed(deed))
+    return stand_behind(told_stand(stand), told_deed(deed))
 
 
 def can_do(stand, deed):
     """Whether deed can be done in stand."""
     told, own = told_stand(stand), told_deed(deed)
     try:
-        _done(told, own)
+        stand_behind(told, own)
     except (NoBand, NoPlace, Unfit, Taken, CanNot):
         return False
     return True
@@ -88,7 +88,7 @@ def ins(stand, number):
 def doable(stand, number, word):
     """The list, ascending, of the DEEDS of BAND number with this word, which names no many, that can be done."""
     told = told_stand(stand)
-    _check_band(told, number)
+    check_band(told, number)
     ground = Ground(told)
     ends = [(side,) for side in STROKES] if word in SIDED_WORDS else [()]
     deeds = [(word, number, place) + end for place in range(len(told[number][1])) for end in ends]
@@ -105,7 +105,7 @@ def _is_doable(ground, deed):
     return True
 
 
-def _check_band(stand, number):
+def check_band(stand, number):
     """NoBand(number) if stand has no BAND of this number."""
     if not (is_number(number) and 0 <= number < len(stand)):
         raise NoBand(number)
@@ -113,12 +113,12 @@ def _check_band(stand, number):
 
 def check_places(stand, deed):
     """NoBand(..) or NoPlace(..) if stand has not the BAND that deed names, or that not the places it wants."""
-    _check_band(stand, deed[1])
+    check_band(stand, deed[1])
     for place in range(deed[2], deed[2] + WANTED[deed[0]]):
         check_place(place, stand[deed[1]][1])
 
 
-def _done(stand, deed):
+def stand_behind(stand, deed):
     """The STAND behind deed, both told in tuples."""
     check_places(stand, deed)
     word, number = deed[0], deed[1]
@@ -138,9 +138,14 @@ def _band_changed(band, deed, new):
     """The BAND behind a DEED that makes new of the strokes it names."""
     (start, strokes), turns = band
     place, end = deed[2], deed[2] + WANTED[deed[0]]
-    change = row_change(strokes[place:end], new, strokes[place - 1], strokes[end % len(strokes)])
-    along = new_turns(deed[0], turns[place:end], change)
+    along = new_turns(deed[0], turns[place:end], plain_change(strokes, deed, new))
     return ((start, strokes[:place] + new + strokes[end:]), turns[:place] + along + turns[end:])
+
+
+def plain_change(strokes, deed, new):
+    """By how much QUARTERS change, but for what is hopped over, by a DEED that makes new of what it names."""
+    place, end = deed[2], deed[2] + WANTED[deed[0]]
+    return row_change(strokes[place:end], new, strokes[place - 1], strokes[end % len(strokes)])
 
 
 def changed(ground, deed):

@@ -14,10 +14,7 @@ def hops(stand, number):
 def hop_sign(stand, deed):
     """The sign of a hop or back."""
     ground, own = _hop_ground(stand, deed)
-    number, place = strand_below(ground, own)
-    stroke, side = lifted(own, named(ground, own))
-    sign = -determinant(stroke, side, ground.bands[number][0][1][place])
-    return sign if own[0] == "hop" else -sign
+    return sign_over(ground, own)
 
 
 def hop_below(stand, deed):
@@ -34,3 +31,11 @@ def _hop_ground(stand, deed):
         raise Unfit()
     changed(ground, own)
     return ground, own
+
+
+def sign_over(ground, deed):
+    """The sign of a hop or back that can be done."""
+    number, place = strand_below(ground, deed)
+    stroke, side = lifted(deed, named(ground, deed))
+    sign = -determinant(stroke, side, ground.bands[number][0][1][place])
+    return sign if deed[0] == "hop" else -sign

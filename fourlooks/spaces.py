@@ -26,15 +26,15 @@ def is_mirror(turn):
 def turned(cord, turn):
     """The CORD with its start and its strokes turned."""
     start, strokes = told_cord(cord)
-    return (_turned_point(start, turn), tuple([_turned_stroke(stroke, turn) for stroke in strokes]))
+    return (turned_point(start, turn), tuple([turned_stroke(stroke, turn) for stroke in strokes]))
 
 
-def _turned_stroke(stroke, turn):
+def turned_stroke(stroke, turn):
     """The STROKE to which turn leads this one."""
     return way(stroke) * turn[abs(stroke) - 1]
 
 
-def _turned_point(point, turn):
+def turned_point(point, turn):
     """The POINT to which turn leads this one."""
     numbers = [0, 0, 0]
     for number, stroke in zip(point, turn):
@@ -57,10 +57,10 @@ def turned_band(band, turn):
 
 def put_together(turn, other):
     """The TURN that does what turn does, then what other does."""
-    return tuple([_turned_stroke(stroke, other) for stroke in turn])
+    return tuple([turned_stroke(stroke, other) for stroke in turn])
 
 
 def turn_back(turn):
     """The TURN that undoes turn."""
     # The numbers of this POINT are the axes: behind turn they stand where turn leads each axis.
-    return _turned_point((1, 2, 3), turn)
+    return turned_point((1, 2, 3), turn)

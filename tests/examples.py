@@ -201,6 +201,51 @@ raises Taken(point=(0, 1, 0))
 raises CanNot()
 """
 
+EFFECTS = """
+>>> coil = ((0, 0, 0), (1, 2, 1, 3, -1, -1, -2, -3))
+>>> one = (plain_band(coil, 0),)
+>>> [quarters_change(one, own) for own in (("bend", 0, 0), ("out", 0, 0, -2), ("slide", 0, 0, 7), ("begin", 0, 3), ("cut", 0, -2))]
+[1, -1, 0, 0, 0]
+>>> [whole_change(one, own) for own in (("bend", 0, 0), ("out", 0, 0, -2), ("cut", 0, -2))], quarters(coil), quarters(done(one, ("out", 0, 0, -2))[0][0])
+([0, 0, -2], -1, -2)
+>>> low, ring = ((0, 0, 0), (1, 1, -2, -1, -1, 2)), ((1, 1, 0), (3, 1, 1, -3, -3, -1, -1, 3))
+>>> pair, over = (plain_band(low, 0), plain_band(ring, 5)), ("hop", 0, 0, 2)
+>>> quarters_change(pair, over), whole_change(pair, over), links_changed(pair, over), links_changed(pair, ("out", 1, 3, 2))
+(0, 0, ((1, -1),), ())
+>>> led = done(pair, over)
+>>> links_changed(led, ("back", 0, 0)), link(low, ring), link(led[0][0], ring), whole(led[1])
+(((1, 1),), 0, -1, 5)
+>>> loop = (plain_band(((0, 0, 0), (1, 1, -3, 2, -1, 3, 3, -1, -2, -3)), 0),)
+>>> quarters_change(loop, over), whole_change(loop, over), links_changed(loop, over), whole(done(loop, over)[0])
+(-6, -2, (), -2)
+>>> quarters_change(one, ("bend", 0, 4))
+raises Unfit()
+>>> whole_change(pair, ("out", 0, 0, 2))
+raises Taken(point=(1, 1, 0))
+"""
+
+PLANS = """
+>>> skew, plate = ((0, 0, 0), (1, 2, 3, -2, -1, -3)), ((0, 0, 5), (1, 2, -1, -2))
+>>> two = (plain_band(skew, 1), plain_band(plate, 0))
+>>> way = (("bend", 0, 0), ("out", 1, 0, 3), ("slide", 1, 1, 2), ("cut", 1, -1), ("begin", 0, 2))
+>>> behind_plan(two, way)[1], is_plan(two, way), is_plan(two, way + way[:1]), is_plan(two, list(way))
+((((0, 0, 5), (3, 1, -3, 2, -1, -2)), (-4, 2, -2, 0, 0, 0)), True, True, False)
+>>> [whole(own) for own in behind_plan(two, way)], ledger(two, way)
+([1, -1], [(0, 0), (0, 0), (0, 0), (0, -1), (0, 0)])
+>>> back = (("begin", 0, 4), ("cut", 1, 1), ("slide", 1, 1, -2), ("in", 1, 0), ("bend", 0, 0))
+>>> is_plan_back(two, way, back), is_plan_back(two, way, back[:4]), is_plan_back(two, way, plan_back(two, way))
+(True, False, True)
+>>> spun = ((skew, (9, 0, 0, 0, 0, -5)), two[1])
+>>> behind_plan(two, slides(two, spun)) == spun, {own[0] for own in slides(two, spun)}, slides(two, two)
+(True, {'slide'}, ())
+>>> behind_plan(two, (("bend", 0, 0), ("in", 1, 0)))
+raises Broken(place=1)
+>>> slides(two, (plain_band(skew, 2), two[1]))
+raises CanNot()
+>>> ledger(two, (("bend", 0),))
+raises Unfit()
+"""
+
 HOPS = """
 >>> low, high = ((0, -1, 0), (2, 2, -3, -3, -2, -2, 3, 3)), ((-1, 0, 1), (1, 1, 3, -1, -1, -3))
 >>> two = (plain_band(low, 0), plain_band(high, 0))
@@ -215,4 +260,44 @@ HOPS = """
 raises Unfit()
 >>> hop_sign(two, ("hop", 1, 0, 3))
 raises Taken(point=(-1, 0, 2))
+"""
+
+ROOMS = """
+>>> flat = (plain_band(square, 0),)
+>>> len(room_points(square, 0, 3, 1)), room_points(square, 0, 3, 1)[:3], len(rooms(flat, 0)), rooms(flat, 0)[:2]
+(21, ((0, 0, 1), (0, 0, 2), (0, 0, 3)), 24, [(0, -3, -1), (0, -3, 1)])
+>>> way = round_plan(flat, 0, (0, 3, 1))
+>>> len(way), behind_plan(flat, way), is_round_plan(flat, 0, way), is_round_plan(flat, 0, ())
+(23, ((((0, 0, 0), (1, 2, -1, -2)), (-8, 0, 0, 0)),), True, False)
+>>> fewest_hops(flat, (plain_band(square, -6),)), fewest_hops(two, (slid(two[0], 0, 3), plain_band(high, 4)))
+(3, 2)
+>>> far = (plain_band(square, 4),)
+>>> is_whole_plan(flat, far, whole_plan(flat, far)), is_whole_plan(flat, far, way), is_whole_plan(flat, flat, ())
+(True, False, True)
+>>> fewest_hops(flat, (plain_band(square, 1),))
+raises CanNot()
+>>> round_plan(flat, 0, (0, 2, 1))
+raises Unfit()
+"""
+
+YARDS = """
+>>> level, upright = (square, (0, 0, 0, 0)), (((5, 0, 0), (1, 3, -1, -3)), (0, 2, 2, 0))
+>>> chained = ((hoop, (0,) * 8), (ring, (8, 0, 0, 0, 0, 0, 0, 0)))
+>>> table((level, upright)), table(chained)
+(((0, 1), ((0, 0), (0, 0))), ((0, 2), ((0, 1), (1, 0))))
+>>> fewest_for(chained, ((0, 0), ((0, 0), (0, 0)))), fewest_for(chained, ((-4, 2), ((0, 3), (3, 0)))), fewest_for(chained, table(chained))
+(2, 4, 0)
+>>> fewest_for(chained, ((1, 2), ((0, 1), (1, 0))))
+raises CanNot()
+>>> fewest_for(chained, ((0, 2), ((0, 1), (-1, 0))))
+raises Unfit()
+>>> flat, petrie = ((0, 0, 0), (1, 1, 2, -1, -1, -2)), ((0, 0, 0), (1, 2, 3, -1, -2, -3))
+>>> led_to(flat), [len(led_to(own)) for own in (square, skew, petrie)], led_to(coil) == led_to(begun(coil, 3))
+([((0, 0, 0), (-2, -1, 2, 1))], [10, 4, 6], True)
+>>> least_way(square, upright[0])
+[((0, 0, 0), (-2, -1, 2, 1)), ((0, 0, 0), (-3, -2, -1, 2, 3, 1)), ((0, 0, 0), (-3, -1, 3, 1))]
+>>> [len(least_way(flat, own)) for own in (flat, square, skew, petrie)], counted(4, 0), counted(6, 0), counted(6, 1)
+([1, 2, 5, 4], 3, 22, 0)
+>>> led_to(((0, 0, 0), (1, 1, 1, 1, 2, -1, -1, -1, -1, -2)))
+raises TooMany()
 """

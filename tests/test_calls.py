@@ -5,7 +5,7 @@ import unittest
 
 import lab
 import model
-from fourlooks import bands, deeds, hops, links, looks, sides, skins, spaces
+from fourlooks import (bands, deeds, effects, hops, links, looks, plans, rooms, sides, skins, spaces, yards)
 from fourlooks.errors import Unfit
 
 BAND = (lab.LOOP, (3, -1, 0, 2, 5, 0, 0, -7, 1, -5))
@@ -14,6 +14,9 @@ SKIN = ((((-1, 0, 2), 1), -2), (((0, 0, 0), 3), 1), (((1, 0, 0), 1), 5))
 TWO = (lab.BAND_LOW, lab.BAND_HIGH)
 OVER = ("hop", 1, 0, -3)
 LED = (lab.BAND_LOW, lab.BAND_HIGH_LED)
+PLAN = (OVER, ("slide", 1, 4, -6), ("begin", 1, 4), ("cut", 0, 4), ("out", 0, 4, -3))
+BACK = (("in", 0, 4), ("cut", 0, -4), ("begin", 1, 6), ("slide", 1, 4, 6), ("back", 1, 0))
+LESS = (bands.plain_band(lab.BAND_LOW[0], 2), lab.BAND_HIGH)
 
 # Each function with arguments by name. What is judged there is told by JUDGED.
 CALLS = (
@@ -63,19 +66,43 @@ CALLS = (
     (hops.hops, {"stand": TWO, "number": 1}),
     (hops.hop_sign, {"stand": TWO, "deed": OVER}),
     (hops.hop_below, {"stand": LED, "deed": ("back", 1, 0)}),
+    (effects.quarters_change, {"stand": TWO, "deed": ("out", 0, 4, -3)}),
+    (effects.whole_change, {"stand": TWO, "deed": ("cut", 0, 4)}),
+    (effects.links_changed, {"stand": TWO, "deed": OVER}),
+    (plans.behind_plan, {"stand": TWO, "plan": PLAN}),
+    (plans.plan_back, {"stand": TWO, "plan": PLAN}),
+    (plans.ledger, {"stand": TWO, "plan": PLAN}),
+    (plans.slides, {"stand": TWO, "other": (lab.BAND_LOW, (lab.BAND_HIGH[0], (1, 2, 3, -1, -2, -3)))}),
+    (rooms.room_points, {"cord": lab.COIL, "place": 3, "up": 2, "hand": -1}),
+    (rooms.rooms, {"stand": TWO, "number": 1}),
+    (rooms.round_plan, {"stand": TWO, "number": 0, "room": (1, -1, 1)}),
+    (rooms.fewest_hops, {"stand": TWO, "other": LESS}),
+    (rooms.whole_plan, {"stand": TWO, "other": LESS}),
+    (yards.table, {"stand": LED}),
+    (yards.fewest_for, {"stand": TWO, "table": ((-2, 4), ((0, -3), (-3, 0)))}),
+    (yards.led_to, {"cord": lab.COIL}),
+    (yards.least_way, {"cord": lab.SKEW, "other": lab.SQUARE}),
 )
 # What is judged ahead of all, by the name of the argument: the tests' own list of what is none.
 JUDGED = {"cord": lab.NO_CORDS, "yard": lab.NO_YARDS, "band": lab.NO_BANDS, "stand": lab.NO_STANDS}
 # Where other is judged, it is of the kind of the first argument.
 OTHERS = {"link": lab.NO_CORDS, "link_by": lab.NO_CORDS, "crossings_between": lab.NO_CORDS,
-          "seen_between": lab.NO_CORDS, "same_band": lab.NO_BANDS}
+          "seen_between": lab.NO_CORDS, "same_band": lab.NO_BANDS, "slides": lab.NO_STANDS,
+          "fewest_hops": lab.NO_STANDS, "whole_plan": lab.NO_STANDS, "is_whole_plan": lab.NO_STANDS,
+          "least_way": lab.NO_CORDS}
 THINGS = (
     (spaces.is_turn, {"thing": (2, 3, -1)}), (looks.is_look, {"thing": LOOK}), (bands.is_band, {"thing": BAND}),
     (skins.is_square, {"thing": ((1, 2, 3), 1)}),
     (skins.is_skin, {"cord": lab.SKEW, "thing": ((((0, 0, 0), 2), -1), (((1, 0, 0), 1), 1))}),
     (deeds.is_stand, {"thing": TWO}), (deeds.is_deed, {"thing": OVER}),
+    (plans.is_plan, {"stand": TWO, "thing": PLAN}),
+    (plans.is_plan_back, {"stand": TWO, "plan": PLAN, "thing": BACK}),
+    (rooms.is_round_plan, {"stand": TWO, "number": 0, "thing": rooms.round_plan(TWO, 0, (1, -1, 1))}),
+    (rooms.is_whole_plan, {"stand": TWO, "other": LESS, "thing": rooms.whole_plan(TWO, LESS)}),
 )
 BAD_THINGS = lab.NO_STANDS + lab.NO_YARDS + lab.NO_TURNS
+# What among them is what a function asks for.
+HELD = {"is_band": (lab.FLAT, lab.WOUND), "is_plan": ((),)}
 
 
 def holds_a_list(value):
@@ -111,10 +138,12 @@ class Lists(unittest.TestCase):
             for own in lab.listed(more["thing"]):
                 self.assertIs(function(**{**more, "thing": own}), False)
 
-    def test_is_skin_takes_a_cord_in_lists(self):
-        function, more = THINGS[4]
-        for own in lab.listed(more["cord"]):
-            self.assertIs(function(own, more["thing"]), True)
+    def test_lists_beside_what_is_judged(self):
+        for function, more in THINGS:
+            for name, value in more.items():
+                if name != "thing":
+                    for own in lab.listed(value):
+                        self.assertIs(function(**{**more, name: own}), True)
 
 
 class Calls(unittest.TestCase):
@@ -148,7 +177,7 @@ class Calls(unittest.TestCase):
                 told.append("own")
                 del told[0]
                 self.assertEqual(function(**more), kept)
-        self.assertEqual(many, 7)
+        self.assertEqual(many, 11)
 
     def test_what_is_told_does_not_change_with_what_was_handed_in(self):
         for function, more in CALLS:
@@ -188,7 +217,7 @@ class UnfitArguments(unittest.TestCase):
 
     def test_ahead_of_the_errors_of_the_other_arguments(self):
         wrong = {"place": -1, "number": 9, "deed": ("bend", 9, 0), "look": (1, 1, 1), "side": 1,
-                 "thing": None, "turns": None}
+                 "thing": None, "turns": None, "plan": (("bend", 9, 0),), "room": None, "up": 9, "table": None}
         for function, more in CALLS + THINGS:
             own = {name: wrong.get(name, value) for name, value in more.items()}
             for name in more:
@@ -198,7 +227,7 @@ class UnfitArguments(unittest.TestCase):
     def test_thing_may_be_anything(self):
         for function, more in THINGS:
             for bad in BAD_THINGS:
-                if bad not in (lab.FLAT, lab.WOUND) or function != bands.is_band:
+                if bad not in HELD.get(function.__name__, ()):
                     with self.subTest(function=function.__name__, bad=bad):
                         self.assertIs(function(**{**more, "thing": bad}), False)
 

@@ -54,8 +54,25 @@ LISTED = {
         "is_stand": ["thing"], "is_deed": ["thing"], "done": ["stand", "deed"], "can_do": ["stand", "deed"],
         "bends": ["stand", "number"], "outs": ["stand", "number"], "ins": ["stand", "number"],
     },
+    "effects": {
+        "quarters_change": ["stand", "deed"], "whole_change": ["stand", "deed"], "links_changed": ["stand", "deed"],
+    },
+    "plans": {
+        "behind_plan": ["stand", "plan"], "is_plan": ["stand", "thing"], "plan_back": ["stand", "plan"],
+        "is_plan_back": ["stand", "plan", "thing"], "ledger": ["stand", "plan"], "slides": ["stand", "other"],
+    },
     "hops": {
         "hops": ["stand", "number"], "hop_sign": ["stand", "deed"], "hop_below": ["stand", "deed"],
+    },
+    "rooms": {
+        "room_points": ["cord", "place", "up", "hand"], "rooms": ["stand", "number"],
+        "round_plan": ["stand", "number", "room"], "is_round_plan": ["stand", "number", "thing"],
+        "fewest_hops": ["stand", "other"], "whole_plan": ["stand", "other"],
+        "is_whole_plan": ["stand", "other", "thing"],
+    },
+    "yards": {
+        "table": ["stand"], "fewest_for": ["stand", "table"], "led_to": ["cord"], "least_way": ["cord", "other"],
+        "counted": ["many", "number"],
     },
 }
 
