@@ -134,7 +134,7 @@ def _differ_oddly(falls):
 
 
 def _hops_for(falls):
-    """How many hops and backs change S by these even numbers: each one by two."""
+    """How many hops and backs let S fall by these numbers, if they are even: each one by two."""
     return sum([abs(fall) for fall in falls]) // 2
 
 
@@ -163,7 +163,6 @@ def _rounds(stand, number, fall):
 def is_whole_plan(stand, other, thing):
     """Whether thing is a PLAN without cuts, with as few hops and backs as can be, that leads from stand to other."""
     one, two = told_stand(stand), told_stand(other)
-    falls = _falls(one, two)
-    if _differ_oddly(falls) or end_of(one, thing) != two:
-        return False
-    return not has_cuts(thing) and len(hops_of(thing)) == _hops_for(falls)
+    fewest = _hops_for(_falls(one, two))
+    # Where an S differs oddly only a PLAN with cuts leads there.
+    return end_of(one, thing) == two and not has_cuts(thing) and len(hops_of(thing)) == fewest

@@ -301,3 +301,69 @@ raises Unfit()
 >>> led_to(((0, 0, 0), (1, 1, 1, 1, 2, -1, -1, -1, -1, -2)))
 raises TooMany()
 """
+
+JOINS = """
+>>> lap = ((1, -1, 0), (-1, -2, 1, 2))
+>>> joins(square, lap), joined(square, 0, lap, 0, -2), join_change(square, 0, lap, 0, -2), can_join(square, 0, lap, 1, -2)
+([(0, 0, -2)], ((0, 0, 0), (-2, -2, 1, 2, 2, 2, -1, -2)), 0, False)
+>>> tail = joined(skew, 0, lap, 0, -2)
+>>> tail, join_change(skew, 0, lap, 0, -2), quarters(tail)
+(((0, 0, 0), (-2, -2, 1, 2, 2, 2, 3, -2, -1, -3)), -1, -1)
+>>> parts(tail), parted(tail, 0, 4) == (skew, ((0, -1, 0), (-2, 1, 2, -1))), parted_link(tail, 0, 4), can_part(tail, 1, 3)
+([(0, 4), (4, 0)], True, 0, False)
+>>> loop = ((1, 1, 0), (3, 1, -2, -1, -2, -3, -3, 2, 2, 3))
+>>> joins(hoop, loop), join_change(hoop, 1, loop, 3, 3), link(hoop, loop) ** 2
+([(1, 3, 3), (2, 2, 3)], -1, 1)
+>>> parted(square, 0, 2)
+raises Unfit()
+"""
+
+JUDGE = """
+>>> [is_so(("quarters", own, many)) for own, many in ((skew, 0), (coil, -1), (coil, 1), (tail, -1))]
+[True, True, False, True]
+>>> is_claim(("link", hoop, square, 0)), is_so(("link", hoop, ((0, 0, 5), (1, 2, -1, -2)), 0)), is_so(("link", hoop, loop, 0))
+(False, True, False)
+>>> [is_reason_for(("look", coil, (1, 1, 1), -1), own) for own in ((2, 3, 7), (-2, -3, -7), (2, 3, 0))]
+[True, False, False]
+>>> is_paper_against(("quarters", skew, 1), ((1, 1, 1), 1)), is_reason_for(("quarters", skew, 0), ((1, 1, 1), 1))
+(True, True)
+>>> some, far = (plain_band(square, 0),), (plain_band(square, 3),)
+>>> is_so(("still", some, (slid(some[0], 0, 2),))), paper_against(("comes", some, far)), is_so(("comes", some, (plain_band(square, 2),)))
+(True, 0, True)
+>>> first_fallen((("quarters", skew, 0), ("still", some, far)))
+1
+"""
+
+TEXTS = """
+>>> square, coil = ((0, 0, 0), (1, 2, -1, -2)), ((0, 0, 0), (1, 2, 1, 3, -1, -1, -2, -3))
+>>> yard_text((square, ((5, -1, 0), (3, 2, -3, -2)))), strokes_name(coil[1]), strokes_read("xyXY"), strokes_read("xw")
+('cord 0.0.0 xyXY\\ncord 5.-1.0 zyZY\\n', 'xyxzXXYZ', (1, 2, -1, -2), None)
+>>> stand_text(((coil, (0, 0, 0, 0, 0, 0, 0, 1)),)), read_stand("band 0.0.0 xyXY -4,0,0,4")
+('band 0.0.0 xyxzXXYZ 0,0,0,0,0,0,0,1\\n', ((((0, 0, 0), (1, 2, -1, -2)), (-4, 0, 0, 4)),))
+>>> plan_text((("out", 0, 1, -3), ("slide", 0, 2, -1), ("begin", 1, 0))), deed_read("hop 0 3 Z"), deed_read("bend 0 1 z")
+('out 0 1 Z\\nslide 0 2 -1\\nbegin 1 0\\n', ('hop', 0, 3, -3), None)
+>>> read_yard("cord 0.0.0 xyXY\\ncord 0.0.0")
+raises BadLine(number=1)
+>>> read_stand("band 0.0.0 xyXY 0,0,0,1")
+raises Unfit()
+"""
+
+BOARD = """
+>>> linked = ((hoop, (0,) * 8), (ring, (0,) * 8))
+>>> desk = Board(linked)
+>>> desk.do(("hop", 0, 2, 1)), desk.stand()[0], desk.hops_done(), desk.table_now() == desk.twin().table_now()
+(None, (((0, 0, 0), (1, 1, 1, 1, 2, 2, -1, -1, -1, -1, -2, -2)), (0, 0, 0, 0, 0, 0, 0, 0, 0, 0, 0, 0)), 1, True)
+>>> link_table([desk.first()[0][0], desk.first()[1][0]])[0][1], link_table([desk.stand()[0][0], desk.stand()[1][0]])[0][1]
+(1, 0)
+>>> mate = desk.twin()
+>>> desk.follow((("out", 1, 2, 3), ("slide", 1, 0, 2))), desk.stand()[1], desk.plan()[1:], desk == mate
+(None, (((1, 1, 0), (3, 1, 3, 1, -3, -3, -3, -1, -1, 3)), (2, -2, 0, 0, 0, 0, 0, 0, 0, 0)), (('out', 1, 2, 3), ('slide', 1, 0, 2)), False)
+>>> desk.undo(), desk == mate, desk.undo(), desk.stand() == linked, desk.redo(), desk.hops_done(), desk.could(("bend", 0, 0))
+('follow', True, 'do', True, 'do', 1, False)
+>>> desk.do(("cut", 0, 2)), desk.stand()[0][1][:2], desk.cuts_done()
+(None, (8, 0), (2, 0))
+>>> desk.do(("in", 5, 0))
+raises NoBand(number=5)
+>>> Board(linked).redo()
+raises NothingDone()
+"""

@@ -5,7 +5,8 @@ import unittest
 
 import lab
 import model
-from fourlooks import (bands, deeds, effects, hops, links, looks, plans, rooms, sides, skins, spaces, yards)
+from fourlooks import (bands, deeds, effects, hops, joins, judge, links, looks, plans, rooms, sides, skins, spaces, texts,
+                       yards)
 from fourlooks.errors import Unfit
 
 BAND = (lab.LOOP, (3, -1, 0, 2, 5, 0, 0, -7, 1, -5))
@@ -16,6 +17,7 @@ OVER = ("hop", 1, 0, -3)
 LED = (lab.BAND_LOW, lab.BAND_HIGH_LED)
 PLAN = (OVER, ("slide", 1, 4, -6), ("begin", 1, 4), ("cut", 0, 4), ("out", 0, 4, -3))
 BACK = (("in", 0, 4), ("cut", 0, -4), ("begin", 1, 6), ("slide", 1, 4, 6), ("back", 1, 0))
+LAP, LONG_FLAT = ((1, -1, 0), (-1, -2, 1, 2)), ((0, 0, 0), (1, 1, 1, 1, 2, -1, -1, -1, -1, -2))
 LESS = (bands.plain_band(lab.BAND_LOW[0], 2), lab.BAND_HIGH)
 
 # Each function with arguments by name. What is judged there is told by JUDGED.
@@ -82,6 +84,32 @@ CALLS = (
     (yards.fewest_for, {"stand": TWO, "table": ((-2, 4), ((0, -3), (-3, 0)))}),
     (yards.led_to, {"cord": lab.COIL}),
     (yards.least_way, {"cord": lab.SKEW, "other": lab.SQUARE}),
+    (joins.can_join, {"cord": lab.SKEW, "place": 0, "other": LAP, "number": 0, "side": -2}),
+    (joins.joins, {"cord": lab.SKEW, "other": LAP}),
+    (joins.joined, {"cord": lab.SKEW, "place": 0, "other": LAP, "number": 0, "side": -2}),
+    (joins.join_change, {"cord": lab.SKEW, "place": 0, "other": LAP, "number": 0, "side": -2}),
+    (joins.can_part, {"cord": LONG_FLAT, "place": 1, "number": 7}),
+    (joins.parts, {"cord": LONG_FLAT}),
+    (joins.parted, {"cord": LONG_FLAT, "place": 6, "number": 2}),
+    (joins.parted_link, {"cord": LONG_FLAT, "place": 6, "number": 2}),
+    (judge.is_so, {"claim": ("link", lab.HOOP, lab.RING, 1)}),
+    (judge.is_so, {"claim": ("still", TWO, LESS)}),
+    (judge.paper_against, {"claim": ("link", lab.HOOP, lab.RING, 0)}),
+    (judge.paper_against, {"claim": ("still", TWO, LESS)}),
+    (judge.reason_for, {"claim": ("look", lab.COIL, (1, 1, 1), -1)}),
+    (judge.reason_for, {"claim": ("quarters", lab.COIL, -1)}),
+    (judge.reason_for, {"claim": ("comes", TWO, LESS)}),
+    (judge.first_fallen, {"claims": (("quarters", lab.COIL, -1), ("link", lab.HOOP, lab.RING, 0))}),
+    (texts.strokes_name, {"strokes": (1, 2, -3)}),
+    (texts.deed_name, {"deed": OVER}),
+    (texts.yard_text, {"yard": (lab.HOOP, lab.RING)}),
+    (texts.stand_text, {"stand": TWO}),
+    (texts.plan_text, {"plan": PLAN}),
+    (texts.strokes_read, {"word": "xyZ"}),
+    (texts.deed_read, {"word": "hop 1 0 Z"}),
+    (texts.read_yard, {"text": "cord 0.0.0 xyXY\n"}),
+    (texts.read_stand, {"text": "band 0.0.0 xyXY 0,0,4,0\n"}),
+    (texts.read_plan, {"text": "cut 0 1\nout 0 1 z"}),
 )
 # What is judged ahead of all, by the name of the argument: the tests' own list of what is none.
 JUDGED = {"cord": lab.NO_CORDS, "yard": lab.NO_YARDS, "band": lab.NO_BANDS, "stand": lab.NO_STANDS}
@@ -89,7 +117,8 @@ JUDGED = {"cord": lab.NO_CORDS, "yard": lab.NO_YARDS, "band": lab.NO_BANDS, "sta
 OTHERS = {"link": lab.NO_CORDS, "link_by": lab.NO_CORDS, "crossings_between": lab.NO_CORDS,
           "seen_between": lab.NO_CORDS, "same_band": lab.NO_BANDS, "slides": lab.NO_STANDS,
           "fewest_hops": lab.NO_STANDS, "whole_plan": lab.NO_STANDS, "is_whole_plan": lab.NO_STANDS,
-          "least_way": lab.NO_CORDS}
+          "least_way": lab.NO_CORDS, "can_join": lab.NO_CORDS, "joins": lab.NO_CORDS, "joined": lab.NO_CORDS,
+          "join_change": lab.NO_CORDS}
 THINGS = (
     (spaces.is_turn, {"thing": (2, 3, -1)}), (looks.is_look, {"thing": LOOK}), (bands.is_band, {"thing": BAND}),
     (skins.is_square, {"thing": ((1, 2, 3), 1)}),
@@ -99,10 +128,13 @@ THINGS = (
     (plans.is_plan_back, {"stand": TWO, "plan": PLAN, "thing": BACK}),
     (rooms.is_round_plan, {"stand": TWO, "number": 0, "thing": rooms.round_plan(TWO, 0, (1, -1, 1))}),
     (rooms.is_whole_plan, {"stand": TWO, "other": LESS, "thing": rooms.whole_plan(TWO, LESS)}),
+    (judge.is_claim, {"thing": ("comes", TWO, LESS)}),
+    (judge.is_paper_against, {"claim": ("quarters", lab.SKEW, 1), "thing": ((1, 1, 1), 1)}),
+    (judge.is_reason_for, {"claim": ("still", TWO, TWO), "thing": (("slide", 0, 0, 1), ("slide", 0, 0, -1))}),
 )
 BAD_THINGS = lab.NO_STANDS + lab.NO_YARDS + lab.NO_TURNS
 # What among them is what a function asks for.
-HELD = {"is_band": (lab.FLAT, lab.WOUND), "is_plan": ((),)}
+HELD = {"is_band": (lab.FLAT, lab.WOUND), "is_plan": ((),), "is_reason_for": ((),)}
 
 
 def holds_a_list(value):
@@ -177,7 +209,7 @@ class Calls(unittest.TestCase):
                 told.append("own")
                 del told[0]
                 self.assertEqual(function(**more), kept)
-        self.assertEqual(many, 11)
+        self.assertEqual(many, 13)
 
     def test_what_is_told_does_not_change_with_what_was_handed_in(self):
         for function, more in CALLS:

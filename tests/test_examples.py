@@ -1,14 +1,15 @@
-"""The examples of the document, word for word: sections 3 to 17; and those of README.md."""
+"""The examples of the document, word for word: sections 3 to 21; and those of README.md."""
 
 import doctest
 import pathlib
 import unittest
 
 import examples
-from fourlooks import (bands, cords, deeds, effects, errors, hops, links, looks, plans, pushes, quarters, rooms, sides,
-                       skins, spaces, yards)
+from fourlooks import (bands, board, cords, deeds, effects, errors, hops, joins, judge, links, looks, plans, pushes,
+                       quarters, rooms, sides, skins, spaces, texts, yards)
 
-MODULES = (cords, spaces, looks, links, skins, pushes, quarters, sides, bands, deeds, effects, plans, hops, rooms, yards)
+MODULES = (cords, spaces, looks, links, skins, pushes, quarters, sides, bands, deeds, effects, plans, hops, rooms, yards,
+           joins, judge, texts, board)
 # In the order of the document: a name that a section does not set is that of the nearest one ahead.
 SECTIONS = (
     ("cords", examples.CORDS, 10), ("spaces", examples.SPACES, 6), ("looks", examples.LOOKS, 7),
@@ -16,6 +17,7 @@ SECTIONS = (
     ("quarters", examples.QUARTERS, 8), ("sides", examples.SIDES, 7), ("bands", examples.BANDS, 9),
     ("deeds", examples.DEEDS, 9), ("effects", examples.EFFECTS, 7), ("plans", examples.PLANS, 7),
     ("hops", examples.HOPS, 5), ("rooms", examples.ROOMS, 6), ("yards", examples.YARDS, 8),
+    ("joins", examples.JOINS, 5), ("judge", examples.JUDGE, 6), ("texts", examples.TEXTS, 5), ("board", examples.BOARD, 7),
 )
 
 
@@ -63,7 +65,7 @@ class Examples(unittest.TestCase):
     def test_readme(self):
         path = pathlib.Path(__file__).resolve().parent.parent / "README.md"
         told = doctest.testfile(str(path), module_relative=False)
-        self.assertEqual((told.failed, told.attempted), (0, 35))
+        self.assertEqual((told.failed, told.attempted), (0, 50))
 
 
 if __name__ == "__main__":

@@ -20,7 +20,7 @@ BUILTINS = {
     "Exception", "ValueError", "TypeError", "KeyError", "IndexError", "LookupError",
 }
 METHODS = {
-    "append", "clear", "copy", "count", "endswith", "extend", "find", "get", "index", "insert", "isdigit", "items",
+    "append", "clear", "copy", "count", "endswith", "extend", "find", "get", "index", "insert", "isdecimal", "items",
     "join", "keys", "pop", "remove", "replace", "reverse", "setdefault", "split", "startswith", "strip", "update",
     "values", "add", "discard", "sort", "__init__",
 }
@@ -133,7 +133,7 @@ class Code(unittest.TestCase):
                     self.assertNotIsInstance(node.value, (float, complex, bytes))
                 if isinstance(node, (ast.FunctionDef, ast.ClassDef)):
                     self.assertEqual(node.decorator_list, [])
-                    self.assertIsNotNone(ast.get_docstring(node) or node.name == "__init__" or None, node.name)
+                    self.assertTrue(ast.get_docstring(node) or node.name in ("__init__", "__eq__"), node.name)
 
     def test_builtins(self):
         for name, tree in trees().items():
@@ -156,9 +156,21 @@ class Code(unittest.TestCase):
 
     def test_methods_of_builtin_values(self):
         for name, tree in trees().items():
+            own = {part.name for node in tree.body if isinstance(node, ast.ClassDef) for part in node.body
+                   if isinstance(part, ast.FunctionDef)}
             for node in ast.walk(tree):
                 if isinstance(node, ast.Call) and isinstance(node.func, ast.Attribute):
-                    self.assertIn(node.func.attr, METHODS, name)
+                    self.assertIn(node.func.attr, METHODS | own, name)
+
+    def test_no_name_is_a_method_and_an_attribute(self):
+        for name, tree in trees().items():
+            for node in tree.body:
+                if isinstance(node, ast.ClassDef):
+                    methods = [part.name for part in node.body if isinstance(part, ast.FunctionDef)]
+                    self.assertEqual(len(methods), len(set(methods)))
+                    assigned = {part.attr for part in ast.walk(node) if isinstance(part, ast.Attribute)
+                                and isinstance(part.ctx, ast.Store)}
+                    self.assertEqual(assigned & (set(methods) | METHODS), set(), name)
 
     def test_sets_are_only_measured(self):
         for name, tree in trees().items():

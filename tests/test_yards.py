@@ -104,6 +104,9 @@ class FewestFor(unittest.TestCase):
                     own = [list(row) for row in rows]
                     own[i][j] = other
                     bad.append((wholes, tuple(map(tuple, own))))
+                    own[j][i] = other
+                    if i == j or type(other) is not int:
+                        bad.append((wholes, tuple(map(tuple, own))))
         # Alike but for the sign.
         for i, j in ((0, 1), (0, 2), (1, 2)):
             own = [list(row) for row in rows]
