@@ -33,19 +33,11 @@ class Board:
 
     def undo(self):
         """Takes the last deed back; tells its name."""
-        if not self._past:
-            raise NothingDone()
-        last = self._past.pop()
-        self._future.append(last)
-        return last[0]
+        return _passed_over(self._past, self._future)
 
     def redo(self):
         """Does again what was taken back last; tells its name."""
-        if not self._future:
-            raise NothingDone()
-        last = self._future.pop()
-        self._past.append(last)
-        return last[0]
+        return _passed_over(self._future, self._past)
 
     def first(self):
         """The STAND that was handed in."""
@@ -85,3 +77,12 @@ class Board:
 
     def __eq__(self, other):
         return isinstance(other, Board) and self._begin == other._begin and self.plan() == other.plan()
+
+
+def _passed_over(deeds, others):
+    """Takes the last one of the deeds from them to the others; tells its name."""
+    if not deeds:
+        raise NothingDone()
+    last = deeds.pop()
+    others.append(last)
+    return last[0]

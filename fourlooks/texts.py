@@ -4,7 +4,6 @@ from fourlooks.cords import is_yard, told_yard
 from fourlooks.deeds import SIDED_WORDS, is_deed, is_stand, told_deed, told_stand
 from fourlooks.errors import BadLine, Unfit
 from fourlooks.plans import told_plan
-from fourlooks.strokes import is_stroke
 
 LETTERS = {1: "x", 2: "y", 3: "z", -1: "X", -2: "Y", -3: "Z"}
 LETTERS_READ = {"x": 1, "y": 2, "z": 3, "X": -1, "Y": -2, "Z": -3}
@@ -14,8 +13,6 @@ NOTHING = "-"
 
 def strokes_name(strokes):
     """The name of a tuple of STROKES."""
-    if not all([is_stroke(stroke) for stroke in strokes]):
-        raise Unfit()
     return "".join([LETTERS[stroke] for stroke in strokes]) or NOTHING
 
 

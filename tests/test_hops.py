@@ -5,6 +5,7 @@ from collections import Counter
 
 import lab
 import model
+import walks
 from fourlooks.bands import whole
 from fourlooks.deeds import can_do, done
 from fourlooks.errors import NoBand
@@ -181,15 +182,8 @@ class Wrong(unittest.TestCase):
 
     def test_bands_and_places_ahead_of_other_words(self):
         stand = (lab.BAND_LOW, lab.BAND_HIGH)
-        for word, more in (("bend", ()), ("out", (1,)), ("in", ()), ("hop", (1,)), ("back", ()), ("slide", (1,)),
-                           ("begin", ())):
-            wanted = model.WANTED[word]
-            for number in (-1, 2, FAR):
-                self.refused(stand, (word, number, -1) + more, "NoBand", number)
-            for place, missing in ((-1, -1), (8, 8), (9 - wanted, 8), (-FAR, -FAR), (FAR, FAR)):
-                self.refused(stand, (word, 0, place) + more, "NoPlace", missing)
-        self.refused(stand, ("cut", 2, 0), "NoBand", 2)
-        self.refused(stand, ("cut", -1, 0), "NoBand", -1)
+        for deed, error in walks.misplaced():
+            self.refused(stand, deed, *error)
 
     def test_other_words_are_unfit_whether_they_can_be_done_or_not(self):
         for stand in model.stands()[::5]:

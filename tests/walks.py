@@ -104,3 +104,14 @@ def told_error(call, *arguments):
         assert type(error).__module__ == "fourlooks.errors", repr(error)
         return (type(error).__name__,) + tuple(vars(error).values())
     return None
+
+
+def misplaced():
+    """DEEDS for BANDS and places that are not there in a STAND of two BANDS, the first one of 8 strokes, each with
+    the error that it raises."""
+    found = [(("cut", number, 0), ("NoBand", number)) for number in (2, -1)]
+    for word, more in (("bend", ()), ("out", (1,)), ("in", ()), ("hop", (1,)), ("back", ()), ("slide", (1,)), ("begin", ())):
+        found += [((word, number, -1) + more, ("NoBand", number)) for number in (-1, 2, FAR)]
+        places = ((-1, -1), (8, 8), (9 - model.WANTED[word], 8), (-FAR, -FAR), (FAR, FAR))
+        found += [((word, 0, place) + more, ("NoPlace", missing)) for place, missing in places]
+    return found
